@@ -1,0 +1,98 @@
+// Package larder: values worked out by rules: see DOC.md.
+package larder
+
+import (
+	"larder/api"
+	"larder/rules"
+	"larder/values"
+)
+
+// Check tells whether a text is a rule (P3).
+func Check(rule string) (api.Errno, int) {
+	_, code, at := rules.Parse(rule)
+	return code, at
+}
+
+// Larder is keys with their values and rules.
+type Larder struct {
+	has   map[string]thing
+	done  map[string]values.Worth // what was brought up to date within the Ask
+	begun []string                // the keys that are being brought up to date, in the order in which they were begun
+	ring  []string                // the first one that was met in the Ask
+}
+
+// thing is what a key has: a value, or else a rule.
+type thing struct {
+	value values.Value
+	rule  *rules.Node
+}
+
+// New makes an empty larder (P4).
+func New() *Larder {
+	return &Larder{has: map[string]thing{}, done: map[string]values.Worth{}}
+}
+
+// Put gives a key a value (P4).
+func (l *Larder) Put(key string, value string) api.Errno {
+	if !rules.IsName(key) {
+		return api.ErrName
+	}
+	v, ok := values.Read(value)
+	if !ok {
+		return api.ErrValue
+	}
+	return l.give(key, thing{value: v})
+}
+
+// Set gives a key a rule (P4).
+func (l *Larder) Set(key string, rule string) (api.Errno, int) {
+	if !rules.IsName(key) {
+		return api.ErrName, 0
+	}
+	tree, code, at := rules.Parse(rule)
+	if code != api.OK {
+		return code, at
+	}
+	return l.give(key, thing{rule: tree}), 0
+}
+
+// give lays a thing by a key, if there is room.
+func (l *Larder) give(key string, what thing) api.Errno {
+	if _, ok := l.has[key]; !ok && len(l.has) >= api.MaxKeys {
+		return api.ErrFull
+	}
+	l.has[key] = what
+	return api.OK
+}
+
+// Drop takes from a key what it has (P4).
+func (l *Larder) Drop(key string) api.Errno {
+	if !rules.IsName(key) {
+		return api.ErrName
+	}
+	if _, ok := l.has[key]; !ok {
+		return api.ErrNone
+	}
+	delete(l.has, key)
+	return api.OK
+}
+
+// Ran tells whose rules were run by the last Ask, and why (P6).
+func (l *Larder) Ran() []api.Cause { return nil }
+
+// Kept tells what is kept for a key (P6).
+func (l *Larder) Kept(key string) (api.Worth, []api.Need, api.Errno) {
+	return api.Worth{}, nil, api.OK
+}
+
+// Forget takes away what is kept for a key (P6).
+func (l *Larder) Forget(key string) api.Errno { return api.OK }
+
+// Journal tells all that was written (P7).
+func (l *Larder) Journal() string { return "" }
+
+// Pack writes the journal anew, as short as it can be (P7).
+func (l *Larder) Pack() {}
+
+// Open makes a larder out of a journal (P8).
+func Open(journal string) (*Larder, api.Errno) { return nil, api.OK }

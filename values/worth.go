@@ -1,0 +1,35 @@
+package values
+
+import "larder/api"
+
+// Broken is what a part of a rule gives up with: by what it is broken.
+type Broken api.Errno
+
+// Worth is what something is worth: OK and a value, or by what it is broken and nil.
+type Worth struct {
+	Code api.Errno
+	Is   Value
+}
+
+// Take is the value of what is not broken; what needs it is else broken likewise.
+func (w Worth) Take() Value {
+	if w.Code != api.OK {
+		panic(Broken(w.Code))
+	}
+	return w.Is
+}
+
+// Worked tells what some work is worth: this is where giving up ends. A panic of another kind is a fault of the program and goes on.
+func Worked(work func() Value) (worth Worth) {
+	defer func() {
+		reason := recover()
+		switch r := reason.(type) {
+		case nil:
+		case Broken:
+			worth = Worth{Code: api.Errno(r)}
+		default:
+			panic(reason)
+		}
+	}()
+	return Worth{Is: work()}
+}
