@@ -9,21 +9,18 @@ import (
 	"larder/values"
 )
 
-// Ask tells what a key is worth (P5).
+// Ask tells what a key is worth (P5), and works out of it only what it must (P6).
 func (l *Larder) Ask(key string) (string, api.Errno, []string) {
 	if !rules.IsName(key) {
 		return "", api.ErrName, nil
 	}
 	clear(l.done)
-	l.ring = nil
-	worth := l.bring(key)
-	switch worth.Code {
-	case api.OK:
-		return worth.Is.Written(), api.OK, nil
-	case api.ErrRound:
-		return "", api.ErrRound, slices.Clone(l.ring)
+	l.ring, l.ran = nil, nil
+	worth := l.bring(key).Told()
+	if worth.Code != api.ErrRound {
+		return worth.Is, worth.Code, nil
 	}
-	return "", worth.Code, nil
+	return "", api.ErrRound, slices.Clone(l.ring)
 }
 
 // bring brings a key up to date, at most once in an Ask.
@@ -58,9 +55,36 @@ func (l *Larder) workOut(key string) values.Worth {
 	case what.rule == nil:
 		return values.Worth{Is: what.value}
 	}
-	r := runs.Of(what.rule)
-	for need := range r.Needs {
-		r.Tell(l.bring(need))
+	cause, due := l.due(key, what.kept)
+	if !due {
+		return what.kept.worth
 	}
+	l.ran = append(l.ran, cause)
+	return l.run(what)
+}
+
+// due tells whether a key's rule must be run, and why. A need behind the first one that has changed is let alone: the run may not come to it.
+func (l *Larder) due(key string, kept *keeping) (api.Cause, bool) {
+	if kept == nil {
+		return api.Cause{Key: key}, true
+	}
+	for _, need := range kept.needs {
+		if now := l.bring(need.key); !now.Same(need.worth) {
+			return api.Cause{Key: key, Need: need.key, Was: need.worth.Told(), Now: now.Told()}, true
+		}
+	}
+	return api.Cause{}, false
+}
+
+// run works a key's rule out, and keeps what came of it.
+func (l *Larder) run(what *thing) values.Worth {
+	r := runs.Of(what.rule)
+	var needs []need
+	for key := range r.Needs {
+		worth := l.bring(key)
+		r.Tell(worth)
+		needs = withNeed(needs, key, worth)
+	}
+	what.keep(needs, r.Worth())
 	return r.Worth()
 }

@@ -26,7 +26,7 @@ func TestAnyStrings(t *testing.T) {
 	}
 	for range 100000 {
 		key := keys[r.Intn(len(keys))]
-		switch r.Intn(5) {
+		switch r.Intn(7) {
 		case 0:
 			l.Put(key, text())
 		case 1:
@@ -38,6 +38,18 @@ func TestAnyStrings(t *testing.T) {
 			}
 		case 2:
 			l.Drop(key)
+		case 3:
+			l.Forget(key)
+		case 4:
+			is, needs, code := l.Kept(key)
+			if code != api.OK && (is != (api.Worth{}) || len(needs) != 0) || code == api.OK && (is.Is == "") != (is.Code != api.OK) {
+				t.Fatalf("P1: Kept(%q) = %v, %v, %d", key, is, needs, code)
+			}
+			for _, cause := range l.Ran() {
+				if cause.Need == "" && cause != (api.Cause{Key: cause.Key}) || cause.Need != "" && cause.Was == cause.Now {
+					t.Fatalf("P1: Ran() has %v", cause)
+				}
+			}
 		default:
 			value, code, ring := l.Ask(key)
 			if (value == "") != (code != api.OK) || (len(ring) == 0) != (code != api.ErrRound) {

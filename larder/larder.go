@@ -13,23 +13,25 @@ func Check(rule string) (api.Errno, int) {
 	return code, at
 }
 
-// Larder is keys with their values and rules.
+// Larder is keys with their values and rules, and what is kept of the runs of these.
 type Larder struct {
-	has   map[string]thing
+	has   map[string]*thing
 	done  map[string]values.Worth // what was brought up to date within the Ask
 	begun []string                // the keys that are being brought up to date, in the order in which they were begun
 	ring  []string                // the first one that was met in the Ask
+	ran   []api.Cause             // of the last Ask
 }
 
-// thing is what a key has: a value, or else a rule.
+// thing is what a key has: a value, or else a rule. What is kept stands in it, so that it goes when the key gets another thing, or has none any more.
 type thing struct {
 	value values.Value
 	rule  *rules.Node
+	kept  *keeping // nil, if nothing is kept
 }
 
 // New makes an empty larder (P4).
 func New() *Larder {
-	return &Larder{has: map[string]thing{}, done: map[string]values.Worth{}}
+	return &Larder{has: map[string]*thing{}, done: map[string]values.Worth{}}
 }
 
 // Put gives a key a value (P4).
@@ -41,7 +43,7 @@ func (l *Larder) Put(key string, value string) api.Errno {
 	if !ok {
 		return api.ErrValue
 	}
-	return l.give(key, thing{value: v})
+	return l.give(key, &thing{value: v})
 }
 
 // Set gives a key a rule (P4).
@@ -53,11 +55,11 @@ func (l *Larder) Set(key string, rule string) (api.Errno, int) {
 	if code != api.OK {
 		return code, at
 	}
-	return l.give(key, thing{rule: tree}), 0
+	return l.give(key, &thing{rule: tree}), 0
 }
 
 // give lays a thing by a key, if there is room.
-func (l *Larder) give(key string, what thing) api.Errno {
+func (l *Larder) give(key string, what *thing) api.Errno {
 	if _, ok := l.has[key]; !ok && len(l.has) >= api.MaxKeys {
 		return api.ErrFull
 	}
@@ -76,17 +78,6 @@ func (l *Larder) Drop(key string) api.Errno {
 	delete(l.has, key)
 	return api.OK
 }
-
-// Ran tells whose rules were run by the last Ask, and why (P6).
-func (l *Larder) Ran() []api.Cause { return nil }
-
-// Kept tells what is kept for a key (P6).
-func (l *Larder) Kept(key string) (api.Worth, []api.Need, api.Errno) {
-	return api.Worth{}, nil, api.OK
-}
-
-// Forget takes away what is kept for a key (P6).
-func (l *Larder) Forget(key string) api.Errno { return api.OK }
 
 // Journal tells all that was written (P7).
 func (l *Larder) Journal() string { return "" }

@@ -113,6 +113,31 @@ func make12() []Value {
 	return items
 }
 
+// TestSameAndTold: two worths are the same if they are told alike.
+func TestSameAndTold(t *testing.T) {
+	var all []Worth
+	for _, text := range []string{"0", "-1", "''", "'0'", "{}", "{0}", "{'0'}", "{{}}", "{1,2}", "{2,1}", "{{1},{2}}", "{{1},{'2'}}"} {
+		v, _ := Read(text)
+		all = append(all, Worth{Is: v})
+		if told := all[len(all)-1].Told(); told != (api.Worth{Is: text}) {
+			t.Errorf("%s is told %v", text, told)
+		}
+	}
+	for code := api.ErrNone; code <= api.ErrRound; code++ {
+		all = append(all, Worth{Code: code})
+		if told := (Worth{Code: code}).Told(); told != (api.Worth{Code: code}) {
+			t.Errorf("broken by %d is told %v", code, told)
+		}
+	}
+	for _, x := range all {
+		for _, y := range all {
+			if x.Same(y) != (x.Told() == y.Told()) {
+				t.Errorf("%v and %v: Same is %t", x, y, x.Same(y))
+			}
+		}
+	}
+}
+
 func TestWorked(t *testing.T) {
 	if worth := Worked(func() Value { return Word("a") }); worth.Code != api.OK || worth.Take() != Word("a") {
 		t.Errorf("what is not broken: %v", worth)

@@ -19,6 +19,22 @@ func (w Worth) Take() Value {
 	return w.Is
 }
 
+// Same tells whether two things are worth the same: the same value, or broken by the same.
+func (w Worth) Same(other Worth) bool {
+	if w.Code != api.OK || other.Code != api.OK {
+		return w.Code == other.Code
+	}
+	return equal(w.Is, other.Is)
+}
+
+// Told is this for who is outside: a value as it is written.
+func (w Worth) Told() api.Worth {
+	if w.Code != api.OK {
+		return api.Worth{Code: w.Code}
+	}
+	return api.Worth{Is: w.Is.Written()}
+}
+
 // Worked tells what some work is worth: this is where giving up ends. A panic of another kind is a fault of the program and goes on.
 func Worked(work func() Value) (worth Worth) {
 	defer func() {
