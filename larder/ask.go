@@ -60,7 +60,7 @@ func (l *Larder) workOut(key string) values.Worth {
 		return what.kept.worth
 	}
 	l.ran = append(l.ran, cause)
-	return l.run(what)
+	return l.run(key, what)
 }
 
 // due tells whether a key's rule must be run, and why. A need behind the first one that has changed is let alone: the run may not come to it.
@@ -76,15 +76,20 @@ func (l *Larder) due(key string, kept *keeping) (api.Cause, bool) {
 	return api.Cause{}, false
 }
 
-// run works a key's rule out, and keeps what came of it.
-func (l *Larder) run(what *thing) values.Worth {
+// run works a key's rule out, and keeps what came of it. The ring hangs on where an Ask begins, and must be met anew: nothing is kept of round.
+func (l *Larder) run(key string, what *thing) values.Worth {
 	r := runs.Of(what.rule)
 	var needs []need
-	for key := range r.Needs {
-		worth := l.bring(key)
+	for needed := range r.Needs {
+		worth := l.bring(needed)
 		r.Tell(worth)
-		needs = withNeed(needs, key, worth)
+		needs = withNeed(needs, needed, worth)
 	}
-	what.keep(needs, r.Worth())
+	switch {
+	case r.Worth().Code != api.ErrRound:
+		l.keep(key, &keeping{r.Worth(), needs})
+	case what.kept != nil:
+		l.lose(key)
+	}
 	return r.Worth()
 }

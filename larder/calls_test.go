@@ -26,7 +26,7 @@ func TestAnyStrings(t *testing.T) {
 	}
 	for range 100000 {
 		key := keys[r.Intn(len(keys))]
-		switch r.Intn(7) {
+		switch r.Intn(8) {
 		case 0:
 			l.Put(key, text())
 		case 1:
@@ -50,12 +50,71 @@ func TestAnyStrings(t *testing.T) {
 					t.Fatalf("P1: Ran() has %v", cause)
 				}
 			}
+		case 5:
+			if again, code := Open(l.Journal() + text()); code != api.OK || again.Journal() != l.Journal() {
+				t.Fatalf("P8: of the journal %q was done %q, %d", l.Journal(), again.Journal(), code)
+			}
+			l.Pack()
 		default:
 			value, code, ring := l.Ask(key)
 			if (value == "") != (code != api.OK) || (len(ring) == 0) != (code != api.ErrRound) {
 				t.Fatalf("P1: Ask(%q) = %q, %d, %v", key, value, code, ring)
 			}
 		}
+	}
+}
+
+// TestAnyJournals: P1 and P8: whatever stands in a journal, Open takes whole lines of it from its beginning on, and the calls of that larder end; what it writes can be opened.
+func TestAnyJournals(t *testing.T) {
+	r := rand.New(rand.NewSource(2))
+	oneOf := func(words ...string) string { return words[r.Intn(len(words))] }
+	keys := []string{"a", "b", "c", "k1", "k-1"}
+	worth := func() string {
+		return oneOf("1", "1", "0", "'a b'", "{a}", "{1,{}}", "none", "none", "nought", "kind", "large", "spent", "round", "")
+	}
+	line := func() string {
+		key := oneOf(keys...)
+		switch r.Intn(6) {
+		case 0:
+			return "put " + key + " " + worth()
+		case 1, 2:
+			return "set " + key + " " + oneOf("a", "b+1", "[b]", "[-1]", "try(c,k1)", "{a,b,c}", "each({1},[it])", "if a then b else c")
+		case 3:
+			return oneOf("drop ", "lose ", "lose", "") + key
+		}
+		text := "keep " + key + " " + worth()
+		for range r.Intn(4) {
+			text += oneOf(" ", " ", " ", " ", "  ", "") + oneOf(keys...) + oneOf("=", "=", "=", "=", "==", "") + worth()
+		}
+		return text
+	}
+	longest := 0
+	for range 2000 {
+		var journal string
+		for range 40 {
+			next := sealed(line())
+			if with, _ := Open(journal + next); with.Journal() == journal+next || r.Intn(20) == 0 {
+				journal += next
+			}
+		}
+		l, code := Open(journal)
+		done := l.Journal()
+		if code != api.OK || !strings.HasPrefix(journal, done) || done != "" && !strings.HasSuffix(done, "\n") {
+			t.Fatalf("P8: of %q was done %q, %d", journal, done, code)
+		}
+		longest = max(longest, strings.Count(done, "\n"))
+		for _, key := range keys {
+			value, code, ring := l.Ask(key)
+			if (value == "") != (code != api.OK) || (len(ring) == 0) != (code != api.ErrRound) {
+				t.Fatalf("P1: out of %q Ask(%q) = %q, %d, %v", journal, key, value, code, ring)
+			}
+			if again, code := Open(l.Journal()); code != api.OK || again.Journal() != l.Journal() {
+				t.Fatalf("P8: of the journal %q was done %q, %d", l.Journal(), again.Journal(), code)
+			}
+		}
+	}
+	if longest < 10 {
+		t.Errorf("no journal was longer than %d lines", longest)
 	}
 }
 

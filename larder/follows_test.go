@@ -10,7 +10,7 @@ import (
 	"larder/api"
 )
 
-// TestWhatFollows: P9 and P6: whatever is done with a larder, Ask tells what one tells in which nothing was kept, and runs what its needs ask for, in their order, and nothing else.
+// TestWhatFollows: P9 and P6: whatever is done with a larder, Ask tells what one tells in which nothing was kept, and runs what its needs ask for, in their order, and nothing else; so do larders that were packed, or opened again, and what is left of it wherever its journal is cut off.
 func TestWhatFollows(t *testing.T) {
 	for seed := range int64(60) {
 		s := &story{t: t, r: rand.New(rand.NewSource(seed)), l: New(), told: map[string][2]string{}}
@@ -21,6 +21,7 @@ func TestWhatFollows(t *testing.T) {
 				t.Fatalf("seed %d", seed)
 			}
 		}
+		s.cutOff()
 	}
 }
 
@@ -62,6 +63,18 @@ func (s *story) rule(depth int) string {
 }
 
 func (s *story) change() {
+	switch s.r.Intn(60) {
+	case 0:
+		s.l.Pack()
+	case 1:
+		s.l = open(s.t, s.l.Journal())
+		ran(s.t, s.l)
+	default:
+		s.changeKey()
+	}
+}
+
+func (s *story) changeKey() {
 	key := s.key()
 	switch s.r.Intn(12) {
 	case 0, 1, 2, 3, 4, 5:
@@ -109,8 +122,13 @@ func needsOf(l *Larder) map[string][]api.Need {
 
 func (s *story) ask() {
 	key := s.key()
-	before, fresh := needsOf(s.l), s.anew()
-	value, code, ring := s.l.Ask(key)
+	before, fresh, twins := needsOf(s.l), s.anew(), s.twins()
+	value, code, ring, all := askAll(s.l, key)
+	for _, twin := range twins {
+		if _, _, _, got := askAll(twin, key); got != all {
+			s.t.Errorf("P9: Ask(%s) and what came of it: %s; of a larder that was opened or packed: %s", key, all, got)
+		}
+	}
 	freshValue, freshCode, freshRing := fresh.Ask(key)
 	if value != freshValue || code != freshCode || !slices.Equal(ring, freshRing) {
 		s.t.Errorf("P9: Ask(%s) = %q, %d, %v; if nothing is kept %q, %d, %v", key, value, code, ring, freshValue, freshCode, freshRing)

@@ -28,13 +28,16 @@ func withNeed(needs []need, key string, worth values.Worth) []need {
 	return append(needs, need{key, worth})
 }
 
-// keep keeps a run in place of the one ahead of it. The ring hangs on where an Ask begins, and must be met anew: nothing is kept of round.
-func (what *thing) keep(needs []need, worth values.Worth) {
-	if worth.Code == api.ErrRound {
-		what.kept = nil
-		return
-	}
-	what.kept = &keeping{worth, needs}
+// keep keeps this for a key that has a rule, in place of what was kept.
+func (l *Larder) keep(key string, kept *keeping) {
+	l.has[key].kept = kept
+	l.write(kept.text(key))
+}
+
+// lose takes away what is kept for a key.
+func (l *Larder) lose(key string) {
+	l.has[key].kept = nil
+	l.write("lose " + key)
 }
 
 // keptOf is what is kept for a key, or nil.
@@ -72,6 +75,6 @@ func (l *Larder) Forget(key string) api.Errno {
 	if l.keptOf(key) == nil {
 		return api.ErrNone
 	}
-	l.has[key].kept = nil
+	l.lose(key)
 	return api.OK
 }

@@ -6,7 +6,6 @@ import (
 	"testing"
 
 	"larder/api"
-	"larder/values"
 )
 
 // TestExampleOne: P6: the document's example 1.
@@ -354,25 +353,4 @@ func TestToldListsAreTheCallers(t *testing.T) {
 	if more[0].Key != "d" {
 		t.Errorf("P2: a list that is the caller's was changed: %v", more)
 	}
-}
-
-// TestUntrueKeeping: P6: what is kept is believed. If it is not what a run would keep, another ring may be met than the rules have, and met first; it is told of round alone.
-func TestUntrueKeeping(t *testing.T) {
-	l := New()
-	set(t, l, "x", "w")
-	set(t, l, "y", "x")
-	set(t, l, "w", "x")
-	untrue := &keeping{worth: values.Worth{Is: values.Number(5)}, needs: []need{{"y", values.Worth{Is: values.Number(1)}}}}
-	l.has["x"].kept = untrue
-	broken(t, l, "x", api.ErrRound, "x", "y")
-	ran(t, l, "y", "x y 1 round", "w")
-	set(t, l, "x", "7")
-	l.has["x"].kept = untrue
-	is(t, l, "x", "7")
-	ran(t, l, "y", "x y 1 round")
-	kept(t, l, "x", "7")
-	put(t, l, "y", "1")
-	l.has["x"].kept = untrue
-	is(t, l, "x", "5")
-	ran(t, l)
 }

@@ -13,19 +13,21 @@ func Check(rule string) (api.Errno, int) {
 	return code, at
 }
 
-// Larder is keys with their values and rules, and what is kept of the runs of these.
+// Larder is keys with their values and rules, what is kept of the runs of these, and the journal of all that.
 type Larder struct {
-	has   map[string]*thing
-	done  map[string]values.Worth // what was brought up to date within the Ask
-	begun []string                // the keys that are being brought up to date, in the order in which they were begun
-	ring  []string                // the first one that was met in the Ask
-	ran   []api.Cause             // of the last Ask
+	has     map[string]*thing
+	done    map[string]values.Worth // what was brought up to date within the Ask
+	begun   []string                // the keys that are being brought up to date, in the order in which they were begun
+	ring    []string                // the first one that was met in the Ask
+	ran     []api.Cause             // of the last Ask
+	journal []byte                  // all lines that were written so far
 }
 
 // thing is what a key has: a value, or else a rule. What is kept stands in it, so that it goes when the key gets another thing, or has none any more.
 type thing struct {
 	value values.Value
 	rule  *rules.Node
+	came  string   // the rule as it came
 	kept  *keeping // nil, if nothing is kept
 }
 
@@ -55,7 +57,7 @@ func (l *Larder) Set(key string, rule string) (api.Errno, int) {
 	if code != api.OK {
 		return code, at
 	}
-	return l.give(key, &thing{rule: tree}), 0
+	return l.give(key, &thing{rule: tree, came: rule}), 0
 }
 
 // give lays a thing by a key, if there is room.
@@ -64,6 +66,7 @@ func (l *Larder) give(key string, what *thing) api.Errno {
 		return api.ErrFull
 	}
 	l.has[key] = what
+	l.write(what.text(key))
 	return api.OK
 }
 
@@ -76,14 +79,6 @@ func (l *Larder) Drop(key string) api.Errno {
 		return api.ErrNone
 	}
 	delete(l.has, key)
+	l.write("drop " + key)
 	return api.OK
 }
-
-// Journal tells all that was written (P7).
-func (l *Larder) Journal() string { return "" }
-
-// Pack writes the journal anew, as short as it can be (P7).
-func (l *Larder) Pack() {}
-
-// Open makes a larder out of a journal (P8).
-func Open(journal string) (*Larder, api.Errno) { return nil, api.OK }

@@ -2,6 +2,8 @@
 package runs
 
 import (
+	"strings"
+
 	"larder/api"
 	"larder/rules"
 	"larder/values"
@@ -109,6 +111,18 @@ func keyOf(v values.Value) string {
 		}
 	}
 	panic(values.Broken(api.ErrKind))
+}
+
+// IsKey tells whether a run may need a key that is called so: a name, or what [ ] makes of a number.
+func IsKey(text string) bool {
+	if rules.IsName(text) {
+		return true
+	}
+	number, ok := strings.CutPrefix(text, "k")
+	if ok {
+		_, ok = values.ReadNumber(number)
+	}
+	return ok
 }
 
 func (r *Run) try(part *rules.Node, it values.Value) values.Value {

@@ -87,3 +87,24 @@ func TestFuel(t *testing.T) {
 		}
 	}
 }
+
+// TestIsKey: P8: a need's key is a name, or k and a number as it is written.
+func TestIsKey(t *testing.T) {
+	for _, text := range []string{"a", "k", "z9", "abcdefgh", "ifs", "k0", "k5", "k007", "k1234567", "k12345678", "k-1", "k-1234567", "k9223372036854775807", "k-9223372036854775808"} {
+		if !IsKey(text) {
+			t.Errorf("P8: %q may be needed", text)
+		}
+	}
+	for _, text := range []string{"", " ", "A", "5", "-5", "if", "it", "word", "abcdefghi", "a-1", "k-", "k-0", "k--1", "k-01", "k01234567", "k+1", "k 1", "k1 ", " k1", "K1", "kk-1", "k9223372036854775808", "k-9223372036854775809", "k'a'", "k1.0", "'a'", "a b", "a=", "k-1\n"} {
+		if IsKey(text) {
+			t.Errorf("P8: %q may not be needed", text)
+		}
+	}
+	for n := range values.Number(300) {
+		for _, n := range []values.Number{n - 150, n * n * n * 1234567, n << 56} {
+			if !IsKey(keyOf(n)) {
+				t.Errorf("P8: [%d] is %q", n, keyOf(n))
+			}
+		}
+	}
+}

@@ -16,6 +16,20 @@ func Read(text string) (Value, bool) {
 	return v, true
 }
 
+// ReadWorth reads the worth that a text begins with, as a journal has it, and tells what stands behind it.
+func ReadWorth(text string) (Worth, string, bool) {
+	for code := api.ErrNone; code <= api.ErrSpent; code++ {
+		if rest, ok := strings.CutPrefix(text, brokenBy(code)); ok {
+			return Worth{Code: code}, rest, true
+		}
+	}
+	v, rest, ok := readFirst(text, api.MaxNest)
+	if !ok {
+		return Worth{}, "", false
+	}
+	return Worth{Is: v}, rest, true
+}
+
 // readFirst reads the value that a text begins with, in which up to nest lists may stand in one another, and tells what stands behind it.
 func readFirst(text string, nest int) (Value, string, bool) {
 	switch {

@@ -155,3 +155,24 @@ func TestWorked(t *testing.T) {
 	}()
 	Worked(func() Value { panic("another") })
 }
+
+// TestReadWorth: a worth is read up to where it ends, and written as it was read; what stands behind it is not looked at.
+func TestReadWorth(t *testing.T) {
+	words := []string{"none", "nought", "kind", "large", "spent"}
+	for i, text := range append(words, "0", "-5", "9223372036854775807", "''", "' a=b '", "{}", "{1,'a b',{{}}}") {
+		for _, behind := range []string{"", " ", " a=1", "=", "x", ",1", "'", "{"} {
+			worth, rest, ok := ReadWorth(text + behind)
+			if !ok || rest != behind || worth.Written() != text {
+				t.Errorf("ReadWorth(%q) = %v, %q, %t", text+behind, worth, rest, ok)
+			}
+			if i < len(words) && worth.Code != api.ErrNone+api.Errno(i) || i >= len(words) && worth.Code != api.OK {
+				t.Errorf("ReadWorth(%q) is broken by %d", text+behind, worth.Code)
+			}
+		}
+	}
+	for _, text := range []string{"", " ", " 1", "round", "None", "non", "ok", "a", "-", "-0", "01", "1-", "--1", "9223372036854775808", "'a", "'" + strings.Repeat("x", 31) + "'", "{", "{1", "{1,}", "{none}", "{{{{}}}}", "=1", "\x00"} {
+		if worth, rest, ok := ReadWorth(text); ok || worth != (Worth{}) || rest != "" {
+			t.Errorf("ReadWorth(%q) = %v, %q, %t", text, worth, rest, ok)
+		}
+	}
+}

@@ -35,6 +35,31 @@ func (w Worth) Told() api.Worth {
 	return api.Worth{Is: w.Is.Written()}
 }
 
+// Written is this as a journal has it: a value as it is written, or by what it is broken.
+func (w Worth) Written() string {
+	if w.Code != api.OK {
+		return brokenBy(w.Code)
+	}
+	return w.Is.Written()
+}
+
+// brokenBy has no word for round: nothing that is broken by that is kept, and so none is written.
+func brokenBy(code api.Errno) string {
+	switch code {
+	case api.ErrNone:
+		return "none"
+	case api.ErrNought:
+		return "nought"
+	case api.ErrKind:
+		return "kind"
+	case api.ErrLarge:
+		return "large"
+	case api.ErrSpent:
+		return "spent"
+	}
+	return ""
+}
+
 // Worked tells what some work is worth: this is where giving up ends. A panic of another kind is a fault of the program and goes on.
 func Worked(work func() Value) (worth Worth) {
 	defer func() {
